@@ -1,0 +1,135 @@
+"""Those rules of the language that a look at the source can tell.
+
+This is no full check of the rules L1 to L28: it catches what is easily
+overlooked while writing.
+"""
+
+import ast
+import builtins
+import pathlib
+import re
+import unittest
+
+PACKAGE = pathlib.Path(__file__).resolve().parent.parent / "walkbox"
+
+CALLED = set("""
+    len range enumerate zip min max sum abs sorted reversed int str bool bytes list tuple dict set
+    isinstance ord repr any all divmod iter next super property staticmethod classmethod
+    Exception ValueError TypeError KeyError IndexError LookupError ZeroDivisionError ArithmeticError
+    OverflowError RuntimeError NotImplementedError AttributeError NotImplemented
+""".split())
+
+BARRED_WORDS = set("""
+    type typing typing_extensions enum Enum IntEnum StrEnum Flag IntFlag Generic Protocol ABC ABCMeta
+    namedtuple NamedTuple TypedDict TYPE_CHECKING abstractmethod
+""".split())
+
+BARRED_NAMES = set("""
+    register mro elements open input law version_info with_traceback add_note format format_map
+""".split())
+
+DOUBLE = set("__init__ __eq__ __repr__ __str__ __len__ __enter__ __exit__ __call__ __iter__".split())
+
+
+def sources():
+    """Each file of the package with its text."""
+    return [(path, path.read_text()) for path in sorted(PACKAGE.glob("**/*.py"))]
+
+
+def nodes(text, *sorts):
+    """All nodes of these sorts."""
+    return [node for node in ast.walk(ast.parse(text)) if isinstance(node, sorts)]
+
+
+def bound_names(text):
+    """All names that a file binds: functions, classes, arguments, variables, attributes."""
+    names = [node.name for node in nodes(text, ast.FunctionDef, ast.ClassDef)]
+    names += [node.arg for node in nodes(text, ast.arg)]
+    names += [node.id for node in nodes(text, ast.Name) if isinstance(node.ctx, ast.Store)]
+    names += [node.attr for node in nodes(text, ast.Attribute) if isinstance(node.ctx, ast.Store)]
+    return names
+
+
+class LanguageTest(unittest.TestCase):
+    def assert_none(self, path, wrong):
+        """Nothing wrong was found in the file."""
+        self.assertEqual(list(wrong), [], path.name)
+
+    def test_there_are_files(self):
+        self.assertIn("__init__.py", [path.name for path, _ in sources()])
+
+    def test_nothing_but_files_of_python(self):
+        for path in PACKAGE.glob("**/*"):
+            if "__pycache__" not in path.parts and path.is_file():
+                self.assertRegex(path.name, r"\A(__init__|__main__|[a-z][a-z0-9_]*)\.py\Z")
+
+    def test_signs(self):
+        for path, text in sources():
+            self.assert_none(path, [sign for sign in text if not (" " <= sign <= "~" or sign == "\n")])
+
+    def test_sizes(self):
+        for path, text in sources():
+            lines = text.split("\n")
+            self.assertLessEqual(len(lines), 399, path.name)
+            self.assert_none(path, [line for line in lines if len(line) > 120])
+            self.assert_none(path, [node.name for node in nodes(text, ast.FunctionDef)
+                                    if node.end_lineno - node.lineno + 1 > 40])
+
+    def test_words(self):
+        for path, text in sources():
+            self.assert_none(path, BARRED_WORDS & set(re.findall(r"\w+", text)))
+            self.assert_none(path, re.findall("dataclass|overload|contextmanager", text))
+
+    def test_imports(self):
+        for path, text in sources():
+            self.assert_none(path, nodes(text, ast.Import))
+            for node in nodes(text, ast.ImportFrom):
+                self.assertRegex(node.module, r"\Awalkbox\.[a-z]+\Z", path.name)
+                there = (PACKAGE / f"{node.module.split('.')[1]}.py").read_text()
+                self.assert_none(path, {alias.name for alias in node.names} - set(bound_names(there)))
+
+    def test_builtins(self):
+        for path, text in sources():
+            used = {node.id for node in nodes(text, ast.Name)} & set(vars(builtins))
+            self.assert_none(path, used - CALLED)
+
+    def test_names(self):
+        for path, text in sources():
+            names = set(bound_names(text)) - DOUBLE
+            self.assert_none(path, names & BARRED_NAMES)
+            self.assert_none(path, names & set(vars(builtins)))
+            self.assert_none(path, [name for name in names if not re.fullmatch("[A-Za-z][A-Za-z0-9_]*", name)])
+
+    def test_is_only_of_none_and_truths(self):
+        for path, text in sources():
+            for node in nodes(text, ast.Compare):
+                for sign, right in zip(node.ops, node.comparators):
+                    if isinstance(sign, (ast.Is, ast.IsNot)):
+                        self.assertIn(getattr(right, "value", "no constant"), (None, True, False), path.name)
+
+    def test_values(self):
+        for path, text in sources():
+            values = [node.value for node in nodes(text, ast.Constant)]
+            self.assert_none(path, [value for value in values if isinstance(value, float)])
+            self.assert_none(path, [value for value in values if isinstance(value, str) and "%" in value])
+            self.assert_none(path, nodes(text, ast.Div))
+
+    def test_any_and_all_take_lists(self):
+        for path, text in sources():
+            calls = [node for node in nodes(text, ast.Call)
+                     if getattr(node.func, "id", "") in ("any", "all", "min", "max", "sum", "sorted")]
+            self.assert_none(path, [part for node in calls for part in node.args
+                                    if isinstance(part, ast.GeneratorExp)])
+
+    def test_no_name_is_a_method_and_an_attribute(self):
+        methods, attributes = set(), set()
+        for _, text in sources():
+            for node in nodes(text, ast.ClassDef):
+                methods |= {part.name for part in node.body if isinstance(part, ast.FunctionDef)}
+            attributes |= {node.attr for node in nodes(text, ast.Attribute)
+                           if isinstance(node.ctx, ast.Store)}
+        self.assertEqual(methods & attributes, set())
+
+
+if __name__ == "__main__":
+    unittest.main()

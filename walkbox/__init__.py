@@ -1,0 +1,1 @@
+"""Walkbox: letters to boxes that walk, none of which overtakes another one."""
