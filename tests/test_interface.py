@@ -11,6 +11,7 @@ PACKAGE = pathlib.Path(__file__).resolve().parent.parent / "walkbox"
 FUNCTIONS = {
     "maps": {"is_name": "(thing)", "is_word": "(thing)"},
     "things": {"is_thing": "(thing)", "is_parcel": "(thing)", "walker_of": "(thing)"},
+    "thingtexts": {"thing_text": "(thing)", "thing_of": "(text)"},
 }
 
 METHODS = {
@@ -36,6 +37,33 @@ METHODS = {
             "home": "(self, walker)", "others": "(self, host)",
             "has_host": "(self, name)", "has_walker": "(self, name)",
             "__eq__": "(self, other)", "__len__": "(self)", "__repr__": "(self)",
+        },
+    },
+    "links": {
+        "Links": {
+            "__init__": "(self, grounds)",
+            "put": "(self, source, goal, thing, *, number=0)",
+            "take": "(self, source, goal)", "entries": "(self, source, goal)",
+            "busy": "(self)", "copied": "(self)",
+            "__eq__": "(self, other)", "__len__": "(self)",
+        },
+    },
+    "posts": {
+        "Post": {
+            "__init__": "(self, grounds, host, walker)",
+            "of_host": "(self)", "of_walker": "(self)",
+            "last": "(self)", "sign": "(self)", "news": "(self)", "bars": "(self)", "height": "(self)",
+            "came": "(self, stay)", "left": "(self, goal, stay)",
+            "turned": "(self, host, number)", "heard": "(self, host, stay)",
+            "sent": "(self, sort, mark, *, first)", "answered": "(self, sort, mark)",
+            "copied": "(self)", "__eq__": "(self, other)",
+        },
+    },
+    "shelves": {
+        "Shelf": {
+            "__init__": "(self)",
+            "put": "(self, number, parcel)", "taken": "(self, *, height=0)", "told": "(self)",
+            "copied": "(self)", "__eq__": "(self, other)", "__len__": "(self)",
         },
     },
 }
