@@ -2,7 +2,7 @@
 
 import unittest
 
-from tests.anything import Stranger, no_texts
+from tests.helper import Stranger, no_texts
 from walkbox.errors import NoBar
 from walkbox.maps import Map
 from walkbox.posts import Post

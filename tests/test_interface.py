@@ -12,6 +12,12 @@ FUNCTIONS = {
     "maps": {"is_name": "(thing)", "is_word": "(thing)"},
     "things": {"is_thing": "(thing)", "is_parcel": "(thing)", "walker_of": "(thing)"},
     "thingtexts": {"thing_text": "(thing)", "thing_of": "(text)"},
+    "papers": {
+        "holder": "(world, host, walker)",
+        "whereabouts": "(world, host, walker, sort, mark)",
+        "paper": "(world, host, walker)",
+        "row_paper": "(world, writer, stay, walker)",
+    },
 }
 
 METHODS = {
@@ -66,7 +72,39 @@ METHODS = {
             "copied": "(self)", "__eq__": "(self, other)", "__len__": "(self)",
         },
     },
+    "rows": {
+        "Rows": {
+            "__init__": "(self, grounds)",
+            "put": "(self, writer, stay, parcel)", "shut": "(self, writer, stay)", "unshut": "(self, writer, stay)",
+            "ended": "(self, writer, stay)", "wanted": "(self, writer, stay)", "taken": "(self, *, sent=False)",
+            "told": "(self)", "ahead": "(self)",
+            "copied": "(self)", "__eq__": "(self, other)", "__len__": "(self)",
+        },
+    },
+    "offices": {
+        "Office": {
+            "__init__": "(self, grounds, host)",
+            "take_in": "(self, thing, *, number=0)", "write": "(self, writer, stay, reader, word)",
+            "leave": "(self, walker, stay, goal)", "ask": "(self, walker)", "shorten": "(self, walker)",
+            "post": "(self, walker)", "shelf": "(self, walker)", "rows": "(self, walker)",
+            "copied": "(self)", "__eq__": "(self, other)",
+        },
+    },
+    "worlds": {
+        "World": {
+            "__init__": "(self, grounds)",
+            "write": "(self, writer, reader, word)", "walk": "(self, walker, goal)",
+            "ask": "(self, host, walker)", "shorten": "(self, host, walker)", "hand": "(self, source, goal)",
+            "quieted": "(self, *, choices=(), most=100000)",
+            "grounds": "(self)", "box": "(self, walker)", "place": "(self, walker)", "stay": "(self, walker)",
+            "post": "(self, host, walker)", "shelf": "(self, host, walker)", "rows": "(self, host, walker)",
+            "links": "(self)", "is_quiet": "(self)", "do": "(self, deed)", "run": "(self, deeds)",
+            "history": "(self)", "log": "(self)", "copied": "(self)", "__eq__": "(self, other)", "key": "(self)",
+        },
+    },
 }
+
+VALUES = {"worlds": {"MOST": 100000}}
 
 
 def defined(file, sort):
@@ -83,6 +121,12 @@ class InterfaceTest(unittest.TestCase):
                 with self.subTest(file=file, name=name):
                     self.assertIn(name, defined(file, ast.FunctionDef))
                     self.assertEqual(str(inspect.signature(getattr(module, name))), signature)
+
+    def test_values(self):
+        for file, values in VALUES.items():
+            module = importlib.import_module(f"walkbox.{file}")
+            for name, value in values.items():
+                self.assertEqual(getattr(module, name), value)
 
     def test_classes(self):
         for file, classes in METHODS.items():

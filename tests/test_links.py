@@ -2,7 +2,7 @@
 
 import unittest
 
-from tests.anything import Stranger, no_texts, shown
+from tests.helper import Stranger, no_texts, shown
 from walkbox.errors import NoSuch, Still
 from walkbox.links import Links
 from walkbox.maps import Map

@@ -2,7 +2,7 @@
 
 import unittest
 
-from tests.anything import no_texts, shown
+from tests.helper import no_texts, shown
 from walkbox.maps import is_name, is_word
 
 LETTERS = "abcdefghijklmnopqrstuvwxyz"

@@ -2,7 +2,7 @@
 
 import unittest
 
-from tests.anything import no_texts, shown
+from tests.helper import no_texts, shown
 from walkbox.errors import NoMap, WalkError
 from walkbox.maps import Map
 

@@ -2,7 +2,7 @@
 
 import unittest
 
-from tests.anything import no_texts, shown
+from tests.helper import no_texts, shown
 from walkbox.errors import NoSuch, NoTurn
 from walkbox.maps import Map
 from walkbox.posts import Post

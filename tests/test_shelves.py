@@ -2,7 +2,7 @@
 
 import unittest
 
-from tests.anything import Stranger, no_texts
+from tests.helper import Stranger, no_texts
 from walkbox.shelves import Shelf
 
 THIRTY = 10 ** 30 - 1

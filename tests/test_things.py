@@ -2,7 +2,7 @@
 
 import unittest
 
-from tests.anything import no_texts, shown
+from tests.helper import no_texts, shown
 from walkbox.things import is_parcel, is_thing, walker_of
 
 THIRTY = 10 ** 30 - 1

@@ -3,7 +3,7 @@
 import re
 import unittest
 
-from tests.anything import no_texts, shown
+from tests.helper import no_texts, shown
 from walkbox.errors import NoThing, WalkError
 from walkbox.things import is_thing
 from walkbox.thingtexts import thing_of, thing_text

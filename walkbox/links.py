@@ -15,8 +15,7 @@ class Links:
 
     def queue(self, source, goal):
         """The entries themselves of that link; refuses what is no link."""
-        if not self.own_map.has_host(source):
-            raise NoSuch(source)
+        self.own_map.check_host(source)
         if not self.own_map.has_host(goal) or goal == source:
             raise NoSuch(goal)
         return self.queues[(source, goal)]

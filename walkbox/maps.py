@@ -83,14 +83,12 @@ class Map:
 
     def home(self, walker):
         """The host at which the walker is at first."""
-        if not self.has_walker(walker):
-            raise NoSuch(walker)
+        self.check_walker(walker)
         return dict(self.homes)[walker]
 
     def others(self, host):
         """The hosts but this one, in order."""
-        if not self.has_host(host):
-            raise NoSuch(host)
+        self.check_host(host)
         return [name for name in self.host_names if name != host]
 
     def has_host(self, name):
@@ -100,6 +98,16 @@ class Map:
     def has_walker(self, name):
         """Whether it is the name of a walker."""
         return is_name(name) and name in self.walkers()
+
+    def check_host(self, name):
+        """Refuse what is no host, of anything."""
+        if not self.has_host(name):
+            raise NoSuch(name)
+
+    def check_walker(self, name):
+        """Refuse what is no walker, of anything."""
+        if not self.has_walker(name):
+            raise NoSuch(name)
 
     def __eq__(self, other):
         return (

@@ -9,8 +9,7 @@ class Post:
     """The post of a host and a walker: last, sign, news and bars."""
 
     def __init__(self, grounds, host, walker):
-        if not grounds.has_host(host):
-            raise NoSuch(host)
+        grounds.check_host(host)
         # The map itself refuses what is no walker, with NoSuch.
         home = grounds.home(walker)
         self.own_map = grounds
