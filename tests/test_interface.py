@@ -18,6 +18,11 @@ FUNCTIONS = {
         "paper": "(world, host, walker)",
         "row_paper": "(world, writer, stay, walker)",
     },
+    "judge": {"judged": "(plan, *, limit=2000)"},
+    "histories": {
+        "history_text": "(deeds)", "read_history": "(grounds, text)",
+        "map_text": "(grounds)", "read_map": "(text)",
+    },
 }
 
 METHODS = {
@@ -102,9 +107,22 @@ METHODS = {
             "history": "(self)", "log": "(self)", "copied": "(self)", "__eq__": "(self, other)", "key": "(self)",
         },
     },
+    "plans": {
+        "Plan": {
+            "__init__": "(self, grounds, rows)",
+            "grounds": "(self)", "rows": "(self)", "__eq__": "(self, other)", "__len__": "(self)",
+        },
+        "Course": {
+            "__init__": "(self, plan)",
+            "world": "(self)", "moves": "(self)", "go": "(self, move)", "left": "(self, walker)", "outcome": "(self)",
+            "copied": "(self)", "key": "(self)",
+        },
+    },
+    "judge": {"Verdict": {"many": "(self)", "outcomes": "(self)", "greatest": "(self)"}},
+    "desk": {"Desk": {"__init__": "(self)", "say": "(self, row)"}},
 }
 
-VALUES = {"worlds": {"MOST": 100000}}
+VALUES = {"worlds": {"MOST": 100000}, "judge": {"LIMIT": 2000}}
 
 
 def defined(file, sort):

@@ -205,11 +205,11 @@ class World:
         return (
             isinstance(other, World)
             and self.own_map == other.own_map
-            and self.offices == other.offices
-            and self.net == other.net
-            and self.boxes == other.boxes
             and self.places == other.places
             and self.stays == other.stays
+            and self.boxes == other.boxes
+            and self.net == other.net
+            and self.offices == other.offices
         )
 
     def office_text(self, host):
