@@ -79,6 +79,29 @@ def is_simple(node):
     return isinstance(node, (ast.Name, ast.Constant)) or (isinstance(node, ast.Attribute) and is_simple(node.value))
 
 
+def module_names(text):
+    """All names that a file binds at module level: imports, functions, classes and values."""
+    tree = ast.parse(text)
+    names = {alias.asname or alias.name for node in nodes(text, ast.ImportFrom) for alias in node.names}
+    names |= {node.name for node in tree.body if isinstance(node, (ast.FunctionDef, ast.ClassDef))}
+    return names | {part.id for node in tree.body if isinstance(node, ast.Assign)
+                    for part in node.targets if isinstance(part, ast.Name)}
+
+
+def is_through_local(node, outer):
+    """Whether a target begins with a name, none of the outer ones, and goes on by attributes and items alone."""
+    while isinstance(node, (ast.Attribute, ast.Subscript)):
+        node = node.value
+    return isinstance(node, ast.Name) and node.id not in outer
+
+
+def stray_attributes(text):
+    """The attributes that a file assigns otherwise than through a local name."""
+    outer = module_names(text)
+    return [ast.unparse(node) for node in nodes(text, ast.Attribute)
+            if not isinstance(node.ctx, ast.Load) and not is_through_local(node, outer)]
+
+
 class LanguageTest(unittest.TestCase):
     def assert_none(self, path, wrong):
         """Nothing wrong was found in the file."""
@@ -203,6 +226,45 @@ class LanguageTest(unittest.TestCase):
             attributes |= {node.attr for node in nodes(text, ast.Attribute)
                            if isinstance(node.ctx, ast.Store)}
         self.assertEqual(methods & attributes, set())
+
+    def test_attributes_are_assigned_through_local_names(self):
+        for path, text in sources():
+            self.assert_none(path, stray_attributes(text))
+
+
+class StrayAttributesTest(unittest.TestCase):
+    """The look at attributes sees what it should, in code that the package hasn't."""
+
+    HEAD = "from walkbox.maps import Map\nROWS = ()\nclass Box:\n    pass\ndef step(self, box, row):\n    "
+
+    def assert_stray(self, code, *wanted):
+        self.assertEqual(stray_attributes(self.HEAD + code), list(wanted), code)
+
+    def test_on_what_a_call_tells(self):
+        self.assert_stray("self.made(row).many = 1", "self.made(row).many")
+        self.assert_stray("Box().many = 1", "Box().many")
+        self.assert_stray("self.made(row).many += 1", "self.made(row).many")
+        self.assert_stray("self.made(row).inner.many = 1", "self.made(row).inner.many")
+        self.assert_stray("self.made(row)[0].many = 1", "self.made(row)[0].many")
+        self.assert_stray("row, self.made(row).many = 1, 2", "self.made(row).many")
+        self.assert_stray("row = self.made(row).many = 1", "self.made(row).many")
+        self.assert_stray("for self.made(row).many in box: pass", "self.made(row).many")
+
+    def test_on_other_things_without_a_name(self):
+        self.assert_stray("(box or row).many = 1", "(box or row).many")
+        self.assert_stray("[box][0].many = 1", "[box][0].many")
+
+    def test_on_names_of_the_module(self):
+        self.assert_stray("Box.many = 1", "Box.many")
+        self.assert_stray("Map.many = 1", "Map.many")
+        self.assert_stray("ROWS.many = 1", "ROWS.many")
+        self.assert_stray("ROWS[0].many = 1", "ROWS[0].many")
+        self.assert_stray("step.many = 1", "step.many")
+
+    def test_through_local_names(self):
+        for code in ("self.many = 1", "box.many += 1", "box.rows[row].many = 1", "twin = Box(); twin.many = 1",
+                     "row = self.made(row); row.many = 1", "self.made(row).many.append(1)", "row = self.made(row).many"):
+            self.assert_stray(code)
 
 
 if __name__ == "__main__":

@@ -57,7 +57,8 @@ class Rows:
         if (writer, stay) in self.unshut_ahead:
             del self.unshut_ahead[(writer, stay)]
         else:
-            self.made(writer, stay).was_shut = True
+            row = self.made(writer, stay)
+            row.was_shut = True
 
     def unshut(self, writer, stay):
         """Unshut the row, or keep in mind that it is unshut ahead."""
